@@ -1,0 +1,1 @@
+"""Finite orders and how they can be drawn."""

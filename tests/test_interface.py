@@ -1,0 +1,46 @@
+"""The interface of the document: names, arguments and places, for the modules that are there."""
+
+import importlib
+import inspect
+import unittest
+
+FUNCTIONS = {
+    "order": {"same": ["one", "other"]},
+    "making": {
+        "dual": ["order"], "renamed": ["order", "names"], "part": ["order", "members"],
+        "beside": ["orders"], "stacked": ["orders"], "product": ["one", "other"]},
+    "levels": {"heights": ["order"], "levels": ["order"], "longest_chain": ["order"], "draw_levels": ["order"]},
+    "forest": {"draw_forest": ["order"]},
+    "joins": {"draw_joins": ["order"]},
+    "netarcs": {"draw_arcs": ["order"]},
+}
+
+ORDER_METHODS = {
+    "__init__": ["size", "pairs"], "below": ["low", "high"], "apart": ["one", "other"],
+    "__iter__": [], "pairs": [], "covers": [], "above": ["element"], "under": ["element"],
+    "upper_covers": ["element"], "lowest": [], "highest": [],
+}
+
+
+class InterfaceTest(unittest.TestCase):
+
+    def test_functions_stand_in_their_files_with_their_arguments(self):
+        for name, functions in FUNCTIONS.items():
+            module = importlib.import_module("drawnorders." + name)
+            for function, arguments in functions.items():
+                found = getattr(module, function)
+                self.assertEqual(found.__module__, module.__name__)
+                self.assertEqual(list(inspect.signature(found).parameters), arguments)
+
+    def test_the_class_order(self):
+        module = importlib.import_module("drawnorders.order")
+        self.assertEqual(module.Order.__module__, module.__name__)
+        for method, arguments in ORDER_METHODS.items():
+            found = vars(module.Order)[method]
+            self.assertEqual(list(inspect.signature(found).parameters), ["self"] + arguments)
+        self.assertIn("__contains__", vars(module.Order))
+        self.assertIsInstance(vars(module.Order)["size"], property)
+
+
+if __name__ == "__main__":
+    unittest.main()
