@@ -39,7 +39,7 @@ def closure(masks):
     for middle in range(size):
         for low in range(size):
             if reached[low] >> middle & 1:
-                reached[low] |= reached[middle]
+                reached[low] = reached[low] | reached[middle]
     return reached
 
 
@@ -69,7 +69,7 @@ def covering(over, element):
     """The elements that cover an element, in ascending order."""
     mask = over[element]
     for high in ones(over[element]):
-        mask &= ~over[high]
+        mask = mask & ~over[high]
     return ones(mask)
 
 

@@ -37,6 +37,25 @@ def names_in(tree):
             yield node.name.split(".")[-1]
 
 
+def root(node):
+    """The name off which an item or an attribute is read, or None."""
+    while isinstance(node, (ast.Attribute, ast.Subscript)):
+        node = node.value
+    return node.id if isinstance(node, ast.Name) else None
+
+
+def changed_and_got(node):
+    """The name of what a statement or a call adds to, and the names in what is added."""
+    got = []
+    changed = None
+    if isinstance(node, ast.AugAssign):
+        changed, got = root(node.target), [node.value]
+    elif isinstance(node, ast.Call) and isinstance(node.func, ast.Attribute):
+        if node.func.attr in ("extend", "update"):
+            changed, got = root(node.func), node.args
+    return changed, {name for one in got for name in names_in(one)}
+
+
 class LanguageTest(unittest.TestCase):
 
     def test_only_python_files(self):
@@ -85,6 +104,17 @@ class LanguageTest(unittest.TestCase):
                 self.assertNotIsInstance(node, BARRED_NODES, path)
                 if isinstance(node, ast.Constant):
                     self.assertNotIsInstance(node.value, (float, complex), path)
+
+    def test_nothing_gets_what_it_changes(self):
+        for path in files():
+            for node in ast.walk(ast.parse(path.read_text())):
+                changed, got = changed_and_got(node)
+                self.assertNotIn(changed, got, (path, node))
+
+    def test_the_form_is_found_that_gets_what_it_changes(self):
+        for line in ("reached[low] |= reached[middle]", "xs += xs[1:]", "box.rows.extend(box.rows)", "d[1].update(d[2])"):
+            found = [changed_and_got(node) for node in ast.walk(ast.parse(line))]
+            self.assertTrue(any(changed in got for changed, got in found), line)
 
 
 if __name__ == "__main__":
