@@ -127,7 +127,21 @@ def fits_arcs(facts, a, b, c, d):
     return facts.covers(a, c) and facts.covers(b, c) and facts.covers(b, d) and not facts.covers(a, d)
 
 
-FITS = {"levels": (3, fits_levels), "forest": (3, fits_forest), "joins": (4, fits_joins), "arcs": (4, fits_arcs)}
+def fits_spans(facts, a, b, c, d):
+    return (facts.below(a, b) and facts.below(c, d) and facts.apart(a, c) and facts.apart(a, d)
+            and facts.apart(b, c) and facts.apart(b, d))
+
+
+def fits_unit(facts, a, b, c, d):
+    if fits_spans(facts, a, b, c, d):
+        return True
+    return (facts.below(a, b) and facts.below(b, c)
+            and facts.apart(d, a) and facts.apart(d, b) and facts.apart(d, c))
+
+
+FITS = {
+    "levels": (3, fits_levels), "forest": (3, fits_forest), "joins": (4, fits_joins), "arcs": (4, fits_arcs),
+    "spans": (4, fits_spans), "unit": (4, fits_unit)}
 
 
 def is_paper(kind, facts, paper):
@@ -194,7 +208,24 @@ def shown_joins(size, drawing):
     return tree_pairs(drawing)
 
 
-SHOWN = {"levels": shown_levels, "forest": shown_forest, "joins": shown_joins, "arcs": shown_arcs}
+def shown_spans(size, drawing):
+    assert type(drawing) is tuple and len(drawing) == size
+    assert all(type(span) is tuple and len(span) == 2 and all(is_number(n) for n in span) for span in drawing)
+    assert all(left <= right for left, right in drawing)
+    return {(a, b) for a in range(size) for b in range(size) if drawing[a][1] < drawing[b][0]}
+
+
+def shown_unit(size, drawing):
+    assert type(drawing) is tuple and len(drawing) == 2
+    length, starts = drawing
+    assert is_number(length) and length >= 0
+    assert type(starts) is tuple and len(starts) == size and all(is_number(n) for n in starts)
+    return {(a, b) for a in range(size) for b in range(size) if starts[a] + length < starts[b]}
+
+
+SHOWN = {
+    "levels": shown_levels, "forest": shown_forest, "joins": shown_joins, "arcs": shown_arcs,
+    "spans": shown_spans, "unit": shown_unit}
 
 
 # The very drawings that point 13 tells.
@@ -246,6 +277,50 @@ def is_told_tree(tree, word=None):
     return all(is_told_tree(below, tree[0]) for below in tree[1])
 
 
+def lower_sets(facts):
+    """For each element the set of the elements below it."""
+    return [frozenset(low for low in range(facts.size) if facts.below(low, e)) for e in range(facts.size)]
+
+
+def spans_told(facts):
+    lowers = lower_sets(facts)
+    different = set(lowers)
+    return tuple(
+        (len([one for one in different if one < lowers[e]]), len([one for one in different if e not in one]) - 1)
+        for e in range(facts.size))
+
+
+def least_starts(facts, length):
+    """The least starts of a drawing with this length, or None if there is none.
+
+    The longest ways through all that one start says of another one, over more and more
+    elements between: a way from a start back to itself that goes up has no drawing.
+    """
+    every = range(facts.size)
+    far = [[length + 1 if facts.below(a, b) else -length if facts.apart(a, b) else None for b in every] for a in every]
+    for e in every:
+        far[e][e] = 0
+    for middle in every:
+        for a in every:
+            if far[a][middle] is None:
+                continue
+            for b in every:
+                if far[middle][b] is not None:
+                    way = far[a][middle] + far[middle][b]
+                    far[a][b] = way if far[a][b] is None else max(way, far[a][b])
+    if any(far[e][e] > 0 for e in every):
+        return None
+    return tuple(max(far[a][e] for a in every if far[a][e] is not None) for e in every)
+
+
+def unit_told(facts):
+    """The least length and the least starts with it, for an order that has such a drawing."""
+    length = 0
+    while (starts := least_starts(facts, length)) is None:
+        length += 1
+    return length, starts
+
+
 def is_told(kind, facts, drawing):
     """True if the drawing is the one that point 13 tells, for an order that has one."""
     if kind == "levels":
@@ -254,5 +329,9 @@ def is_told(kind, facts, drawing):
         return drawing == forest_told(facts)
     if kind == "arcs":
         return drawing == arcs_told(facts)
+    if kind == "spans":
+        return drawing == spans_told(facts)
+    if kind == "unit":
+        return drawing == unit_told(facts)
     # Only one tree of this form shows an order, so its form and what it shows are enough.
     return drawing == ("beside", ()) if facts.size == 0 else is_told_tree(drawing)

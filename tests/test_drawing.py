@@ -1,4 +1,4 @@
-"""Points 9 to 13 for the kinds levels, forest, joins and arcs: each draw_ function against the document."""
+"""Points 9 to 13 for the kinds that are there: each draw_ function against the document."""
 
 import itertools
 import random
@@ -9,10 +9,14 @@ from drawnorders.joins import draw_joins
 from drawnorders.levels import draw_levels
 from drawnorders.netarcs import draw_arcs
 from drawnorders.order import Order
+from drawnorders.spans import draw_spans
+from drawnorders.unit import draw_unit
 
 import plain
 
-DRAW = {"levels": draw_levels, "forest": draw_forest, "joins": draw_joins, "arcs": draw_arcs}
+DRAW = {
+    "levels": draw_levels, "forest": draw_forest, "joins": draw_joins, "arcs": draw_arcs,
+    "spans": draw_spans, "unit": draw_unit}
 
 
 def check_answer(test, kind, facts):
@@ -74,6 +78,8 @@ class ShapesTest(unittest.TestCase):
         self.assertEqual(draw_forest(order), (True, ()))
         self.assertEqual(draw_joins(order), (True, ("beside", ())))
         self.assertEqual(draw_arcs(order), (True, ()))
+        self.assertEqual(draw_spans(order), (True, ()))
+        self.assertEqual(draw_unit(order), (True, (0, ())))
 
     def test_one_element(self):
         order = Order(1, [])
@@ -81,6 +87,8 @@ class ShapesTest(unittest.TestCase):
         self.assertEqual(draw_forest(order), (True, (None,)))
         self.assertEqual(draw_joins(order), (True, ("one", 0)))
         self.assertEqual(draw_arcs(order), (True, ((0, 1),)))
+        self.assertEqual(draw_spans(order), (True, ((0, 0),)))
+        self.assertEqual(draw_unit(order), (True, (0, (0,))))
 
     def test_two_elements(self):
         self.assertEqual(draw_arcs(Order(2, [])), (True, ((0, 1), (0, 1))))

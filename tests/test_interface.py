@@ -13,6 +13,12 @@ FUNCTIONS = {
     "forest": {"draw_forest": ["order"]},
     "joins": {"draw_joins": ["order"]},
     "netarcs": {"draw_arcs": ["order"]},
+    "trees": {
+        "elements_in": ["tree"], "tree_rows": ["tree"], "tree_lots": ["tree"], "tree_width": ["tree"],
+        "tree_height": ["tree"], "match_trees": ["one", "other"]},
+    "spans": {"draw_spans": ["order"], "end_count": ["order"]},
+    "unit": {
+        "draw_unit": ["order"], "least_length": ["order"], "shows_length": ["order", "length", "ring"]},
 }
 
 ORDER_METHODS = {
