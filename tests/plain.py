@@ -144,17 +144,54 @@ FITS = {
     "spans": (4, fits_spans), "unit": (4, fits_unit)}
 
 
+def is_element(facts, thing):
+    return type(thing) is int and 0 <= thing < facts.size
+
+
+def is_arc(facts, thing):
+    return type(thing) is tuple and len(thing) == 2 and all(is_element(facts, e) for e in thing) and facts.apart(*thing)
+
+
+def forces(facts, arc, other):
+    (a, b), (c, d) = arc, other
+    return ((a == c and (facts.below(b, d) or facts.below(d, b)))
+            or (b == d and (facts.below(a, c) or facts.below(c, a))))
+
+
+def is_rows_paper(facts, paper):
+    if type(paper) is not tuple or len(paper) == 0 or not all(is_arc(facts, arc) for arc in paper):
+        return False
+    return paper[-1] == paper[0][::-1] and all(forces(facts, *two) for two in zip(paper, paper[1:]))
+
+
 def is_paper(kind, facts, paper):
+    if kind == "rows":
+        return is_rows_paper(facts, paper)
     many, fits = FITS[kind]
-    if type(paper) is not tuple or len(paper) != many or len(set(paper)) != many:
+    if type(paper) is not tuple or len(paper) != many or not all(is_element(facts, e) for e in paper):
         return False
-    if not all(type(e) is int and 0 <= e < facts.size for e in paper):
-        return False
-    return fits(facts, *paper)
+    return len(set(paper)) == many and fits(facts, *paper)
+
+
+def some_rows_paper(facts):
+    """True if some arc leads, each arc forcing the next one, to the same one reversed."""
+    arcs = [arc for arc in itertools.permutations(range(facts.size), 2) if facts.apart(*arc)]
+    ahead = {arc: [other for other in arcs if forces(facts, arc, other)] for arc in arcs}
+    for first in arcs:
+        reached, waiting = {first}, [first]
+        while waiting:
+            fresh = [other for other in ahead[waiting.pop()] if other not in reached]
+            reached.update(fresh)
+            waiting.extend(fresh)
+        if first[::-1] in reached:
+            return True
+    return False
 
 
 def some_paper(kind, facts):
     """True if some tuple is a paper, found by going through all of them."""
+    if kind == "rows":
+        return some_rows_paper(facts)
     many, fits = FITS[kind]
     return any(fits(facts, *paper) for paper in itertools.permutations(range(facts.size), many))
 
@@ -223,9 +260,41 @@ def shown_unit(size, drawing):
     return {(a, b) for a in range(size) for b in range(size) if starts[a] + length < starts[b]}
 
 
+def shown_rows(size, drawing):
+    assert type(drawing) is tuple and len(drawing) == 2
+    for row in drawing:
+        assert type(row) is tuple and all(is_number(e) for e in row) and sorted(row) == list(range(size))
+    one, other = drawing
+    return {(a, b) for a in range(size) for b in range(size)
+            if one.index(a) < one.index(b) and other.index(a) < other.index(b)}
+
+
 SHOWN = {
     "levels": shown_levels, "forest": shown_forest, "joins": shown_joins, "arcs": shown_arcs,
-    "spans": shown_spans, "unit": shown_unit}
+    "spans": shown_spans, "unit": shown_unit, "rows": shown_rows}
+
+
+def size_told(kind, thing):
+    """The size of the order that a thing shows, if it is a drawing of the kind."""
+    assert type(thing) is tuple
+    if kind == "joins":
+        return len(tree_members(thing))
+    if kind in ("unit", "rows"):
+        assert len(thing) == 2 and type(thing[1]) is tuple
+        return len(thing[1])
+    return len(thing)
+
+
+def order_told(kind, thing):
+    """The size of the order that a thing shows and the set of its pairs, or None if it is no drawing of the kind."""
+    try:
+        size = size_told(kind, thing)
+        assert size <= 40
+        stands = SHOWN[kind](size, thing)
+        assert not any((e, e) in stands for e in range(size))
+    except AssertionError:
+        return None
+    return size, stands
 
 
 # The very drawings that point 13 tells.
@@ -333,5 +402,7 @@ def is_told(kind, facts, drawing):
         return drawing == spans_told(facts)
     if kind == "unit":
         return drawing == unit_told(facts)
+    if kind == "rows":
+        return True
     # Only one tree of this form shows an order, so its form and what it shows are enough.
     return drawing == ("beside", ()) if facts.size == 0 else is_told_tree(drawing)

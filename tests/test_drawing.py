@@ -1,4 +1,4 @@
-"""Points 9 to 13 for the kinds that are there: each draw_ function against the document."""
+"""Points 2 and 9 to 13: each draw_ function against the document, for all kinds."""
 
 import itertools
 import random
@@ -10,13 +10,14 @@ from drawnorders.levels import draw_levels
 from drawnorders.netarcs import draw_arcs
 from drawnorders.order import Order
 from drawnorders.spans import draw_spans
+from drawnorders.tworows import draw_rows
 from drawnorders.unit import draw_unit
 
 import plain
 
 DRAW = {
     "levels": draw_levels, "forest": draw_forest, "joins": draw_joins, "arcs": draw_arcs,
-    "spans": draw_spans, "unit": draw_unit}
+    "spans": draw_spans, "unit": draw_unit, "rows": draw_rows}
 
 
 def check_answer(test, kind, facts):
@@ -80,6 +81,7 @@ class ShapesTest(unittest.TestCase):
         self.assertEqual(draw_arcs(order), (True, ()))
         self.assertEqual(draw_spans(order), (True, ()))
         self.assertEqual(draw_unit(order), (True, (0, ())))
+        self.assertEqual(draw_rows(order), (True, ((), ())))
 
     def test_one_element(self):
         order = Order(1, [])
@@ -89,6 +91,7 @@ class ShapesTest(unittest.TestCase):
         self.assertEqual(draw_arcs(order), (True, ((0, 1),)))
         self.assertEqual(draw_spans(order), (True, ((0, 0),)))
         self.assertEqual(draw_unit(order), (True, (0, (0,))))
+        self.assertEqual(draw_rows(order), (True, ((0,), (0,))))
 
     def test_two_elements(self):
         self.assertEqual(draw_arcs(Order(2, [])), (True, ((0, 1), (0, 1))))

@@ -19,6 +19,10 @@ FUNCTIONS = {
     "spans": {"draw_spans": ["order"], "end_count": ["order"]},
     "unit": {
         "draw_unit": ["order"], "least_length": ["order"], "shows_length": ["order", "length", "ring"]},
+    "tworows": {"draw_rows": ["order"]},
+    "drawings": {"order_of": ["kind", "drawing"]},
+    "kinds": {"draw": ["order", "kind"], "kinds_of": ["order"]},
+    "judge": {"takes": ["order", "kind", "verdict", "paper"]},
 }
 
 ORDER_METHODS = {

@@ -1,6 +1,7 @@
-"""The rules of the language that are easily told from the code: files, sizes, imports, names, methods."""
+"""The rules of the language that are easily told from the code: files, sizes, imports, names, methods, loops, sets."""
 
 import ast
+import builtins
 import pathlib
 import unittest
 
@@ -19,6 +20,15 @@ BARRED = {
     "object", "round", "format", "hex", "bin", "oct", "callable", "delattr", "slice", "complex"}
 BARRED_NODES = (
     ast.Global, ast.AsyncFunctionDef, ast.AsyncFor, ast.AsyncWith, ast.Await, ast.Import, ast.Div, ast.MatMult)
+METHODS = set("""append clear copy count endswith extend find get index insert isalnum isalpha isdigit islower isspace
+    isupper items join keys ljust lower lstrip partition pop remove replace reverse rfind rjust rpartition rsplit rstrip
+    setdefault split splitlines startswith strip update upper values zfill bit_length sort add discard""".split())
+CHANGING = {"append", "clear", "extend", "insert", "pop", "remove", "reverse", "setdefault", "update", "sort", "add",
+            "discard"}
+ON_THE_SPOT = {"zip", "enumerate", "reversed"}
+TAKE_THEM = {"list", "tuple", "dict", "sorted", "sum", "any", "all", "enumerate", "zip"}
+KEYWORDS = {"sorted": {"key", "reverse"}, "min": {"key", "default"}, "max": {"key", "default"}, "sum": {"start"},
+            "enumerate": {"start"}, "zip": {"strict"}}
 
 
 def files():
@@ -54,6 +64,45 @@ def changed_and_got(node):
         if node.func.attr in ("extend", "update"):
             changed, got = root(node.func), node.args
     return changed, {name for one in got for name in names_in(one)}
+
+
+def trees():
+    """The syntax trees of all files, in which each node knows what it stands in."""
+    for path in files():
+        tree = ast.parse(path.read_text())
+        for node in ast.walk(tree):
+            for child in ast.iter_child_nodes(node):
+                child.parent = node
+        yield path, tree
+
+
+def own_methods():
+    return {node.name for path, tree in trees() for one in ast.walk(tree) if isinstance(one, ast.ClassDef)
+            for node in one.body if isinstance(node, ast.FunctionDef)}
+
+
+def called(node):
+    """The name by which a node calls a function, or None."""
+    return node.func.id if isinstance(node, ast.Call) and isinstance(node.func, ast.Name) else None
+
+
+def is_iterated(node):
+    """True if a call stands where it is iterated at once."""
+    parent = node.parent
+    if isinstance(parent, (ast.For, ast.comprehension)):
+        return parent.iter is node
+    return called(parent) in TAKE_THEM and parent.args[0] is node
+
+
+def changes(node, name):
+    """True if a statement or a call changes what has a name."""
+    if isinstance(node, ast.AugAssign):
+        return root(node.target) == name
+    if isinstance(node, (ast.Assign, ast.Delete)):
+        return any(not isinstance(one, ast.Name) and root(one) == name for one in node.targets)
+    if isinstance(node, ast.Call) and isinstance(node.func, ast.Attribute):
+        return node.func.attr in CHANGING and root(node.func) == name
+    return False
 
 
 class LanguageTest(unittest.TestCase):
@@ -104,6 +153,102 @@ class LanguageTest(unittest.TestCase):
                 self.assertNotIsInstance(node, BARRED_NODES, path)
                 if isinstance(node, ast.Constant):
                     self.assertNotIsInstance(node.value, (float, complex), path)
+
+    def test_what_stands_in_a_module(self):
+        for path, tree in trees():
+            for node in tree.body:
+                told = isinstance(node, ast.Expr) and isinstance(node.value, ast.Constant)
+                self.assertTrue(told or isinstance(node, (ast.ImportFrom, ast.FunctionDef, ast.ClassDef, ast.Assign)), path)
+
+    def test_no_decorators_but_properties_and_no_annotations(self):
+        for path, tree in trees():
+            for node in ast.walk(tree):
+                for decorator in getattr(node, "decorator_list", []):
+                    self.assertEqual(ast.unparse(decorator), "property", path)
+                self.assertIsNone(getattr(node, "annotation", None), path)
+                self.assertIsNone(getattr(node, "returns", None), path)
+
+    def test_is_stands_beside_none_true_and_false(self):
+        for path, tree in trees():
+            for node in ast.walk(tree):
+                if isinstance(node, ast.Compare) and isinstance(node.ops[0], (ast.Is, ast.IsNot)):
+                    self.assertIn(ast.unparse(node.comparators[0]), ("None", "True", "False"), (path, node.lineno))
+
+    def test_methods_and_keywords(self):
+        known = METHODS | own_methods()
+        for path, tree in trees():
+            for node in ast.walk(tree):
+                if isinstance(node, ast.Call) and isinstance(node.func, ast.Attribute):
+                    self.assertIn(node.func.attr, known, (path, node.lineno))
+                if hasattr(builtins, called(node) or ""):
+                    given = {keyword.arg for keyword in node.keywords}
+                    self.assertLessEqual(given, KEYWORDS.get(called(node), set()), (path, node.lineno))
+
+    def test_no_name_of_a_builtin_has_another_meaning(self):
+        for path, tree in trees():
+            for node in ast.walk(tree):
+                name = None
+                if isinstance(node, ast.Name) and not isinstance(node.ctx, ast.Load):
+                    name = node.id
+                elif isinstance(node, ast.arg):
+                    name = node.arg
+                elif isinstance(node, (ast.FunctionDef, ast.ClassDef)) and isinstance(node.parent, ast.Module):
+                    name = node.name
+                self.assertFalse(hasattr(builtins, name or ""), (path, name))
+
+    def test_no_name_in_a_function_has_the_name_of_an_import_or_a_class(self):
+        for path, tree in trees():
+            barred = {alias.name for node in tree.body if isinstance(node, ast.ImportFrom) for alias in node.names}
+            barred |= {node.name for node in tree.body if isinstance(node, ast.ClassDef)}
+            for node in ast.walk(tree):
+                if isinstance(node, ast.arg):
+                    self.assertNotIn(node.arg, barred, path)
+                elif isinstance(node, ast.Name) and not isinstance(node.ctx, ast.Load):
+                    self.assertNotIn(node.id, barred, path)
+
+    def test_what_is_iterated_at_once_is_not_kept(self):
+        for path, tree in trees():
+            for node in ast.walk(tree):
+                views = isinstance(node, ast.Call) and isinstance(node.func, ast.Attribute)
+                if called(node) in ON_THE_SPOT or (views and node.func.attr in ("items", "keys", "values")):
+                    self.assertTrue(is_iterated(node), (path, node.lineno))
+
+    def test_sets_are_not_iterated_or_passed_on(self):
+        for path, tree in trees():
+            for node in ast.walk(tree):
+                if called(node) == "set" or isinstance(node, (ast.Set, ast.SetComp)):
+                    parent = node.parent
+                    stored = isinstance(parent, ast.Assign) and isinstance(parent.targets[0], ast.Name)
+                    fits = stored or isinstance(parent, ast.Compare) or called(parent) in ("sorted", "len")
+                    self.assertTrue(fits, (path, node.lineno))
+
+    def test_what_a_loop_goes_over_is_not_changed_in_it(self):
+        for path, tree in trees():
+            for node in ast.walk(tree):
+                if isinstance(node, ast.For):
+                    for name in names_in(node.iter):
+                        bad = [one.lineno for part in node.body for one in ast.walk(part) if changes(one, name)]
+                        self.assertEqual(bad, [], (path, name))
+
+    def test_handlers_name_errors_of_the_program(self):
+        own = {node.name for path, tree in trees() for node in ast.walk(tree) if isinstance(node, ast.ClassDef)}
+        for path, tree in trees():
+            for node in ast.walk(tree):
+                if isinstance(node, ast.ExceptHandler):
+                    self.assertIn(ast.unparse(node.type), own, (path, node.lineno))
+
+    def test_no_circle_of_imports(self):
+        ahead = {path.stem: {node.module.split(".")[-1] for node in tree.body if isinstance(node, ast.ImportFrom)}
+                 for path, tree in trees()}
+        for _ in range(len(ahead)):
+            ahead = {name: some | {far for near in some for far in ahead.get(near, ())} for name, some in ahead.items()}
+        self.assertEqual([name for name, some in ahead.items() if name in some], [])
+
+    def test_no_string_has_a_percent_sign(self):
+        for path, tree in trees():
+            for node in ast.walk(tree):
+                if isinstance(node, ast.Constant) and isinstance(node.value, str):
+                    self.assertNotIn("%", node.value, path)
 
     def test_nothing_gets_what_it_changes(self):
         for path in files():
