@@ -93,6 +93,16 @@ def random_cases(seed, sizes, many):
     return cases
 
 
+def with_a_pair_less_or_more(rng, size, pairs):
+    """The pairs of some orders with one pair less or one pair more than the order of these pairs."""
+    facts = Facts(size, pairs)
+    stands = sorted(facts.stands)
+    covers = [pair for pair in stands if facts.covers(*pair)]
+    apart = [pair for pair in itertools.permutations(range(size), 2) if facts.apart(*pair)]
+    less = [[pair for pair in stands if pair != gone] for gone in rng.sample(covers, min(3, len(covers)))]
+    return less + [stands + [more] for more in rng.sample(apart, min(3, len(apart)))]
+
+
 def small_cases():
     """All orders of up to four elements."""
     return [(size, list(pairs)) for size in range(5) for pairs in all_pairs(size)]

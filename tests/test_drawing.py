@@ -1,6 +1,5 @@
 """Points 2 and 9 to 13: each draw_ function against the document, for all kinds."""
 
-import itertools
 import random
 import unittest
 
@@ -222,14 +221,8 @@ class LargeOrdersTest(unittest.TestCase):
 
     def check_without_each(self, rng, size, pairs, kind):
         """The same order with one pair of covers less, or one pair more."""
-        facts = plain.Facts(size, pairs)
-        stands = sorted(facts.stands)
-        covers = [pair for pair in stands if facts.covers(*pair)]
-        for gone in rng.sample(covers, min(3, len(covers))):
-            self.check(kind, size, [pair for pair in stands if pair != gone])
-        apart = [pair for pair in itertools.permutations(range(size), 2) if facts.apart(*pair)]
-        for more in rng.sample(apart, min(3, len(apart))):
-            self.check(kind, size, stands + [more])
+        for changed in plain.with_a_pair_less_or_more(rng, size, pairs):
+            self.check(kind, size, changed)
 
 
 if __name__ == "__main__":

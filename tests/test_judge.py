@@ -14,6 +14,9 @@ import plain
 from plainthings import FAR, changed, odd_things, random_drawing
 from plaintrees import WORDS, deep_numbers, depth
 
+# Three below and three above, each of which is above two of the others.
+CROWN = [(low, 3 + high) for low in range(3) for high in range(3) if low != high]
+
 
 def told(facts, kind, verdict, thing):
     """What the judge must say, point by point."""
@@ -146,7 +149,7 @@ class PapersTest(JudgeTest):
         self.assertIs(takes(above, "joins", False, (0, 1, 2, 3)), False)
 
     def test_rings_of_arcs(self):
-        crown = Order(6, [(low, 3 + high) for low in range(3) for high in range(3) if low != high])
+        crown = Order(6, CROWN)
         ring = draw(crown, "rows")[1]
         facts = plain.Facts(6, crown.pairs())
         self.assertIs(takes(crown, "rows", False, ring), True)
@@ -167,7 +170,7 @@ class PapersTest(JudgeTest):
 
     def test_rings_of_many_arcs(self):
         # There and back again as often as one likes.
-        crown = Order(6, [(low, 3 + high) for low in range(3) for high in range(3) if low != high])
+        crown = Order(6, CROWN)
         ring = draw(crown, "rows")[1]
         long = (ring + ring[:-1][::-1]) * 1
         for turn in range(100):
@@ -175,11 +178,55 @@ class PapersTest(JudgeTest):
         self.assertIs(takes(crown, "rows", False, long + ring[1:]), True)
         self.assertIs(takes(crown, "rows", False, long), False)
 
+    def test_rings_of_pairs_that_are_comparable(self):
+        # Each of these pairs would force the next one, were they arcs.
+        chain = Order(3, [(0, 1), (1, 2)])
+        self.assertIs(takes(chain, "rows", False, ((0, 1), (0, 2), (1, 2), (1, 0))), False)
+
+    def test_rings_of_arcs_that_force_nothing(self):
+        loose = Order(3, [])
+        self.assertIs(takes(loose, "rows", False, ((0, 1), (0, 2), (1, 2), (1, 0))), False)
+        self.assertIs(takes(loose, "rows", False, ((0, 1), (2, 1), (2, 0), (1, 0))), False)
+
+    def test_rings_that_are_nearly_right(self):
+        """The shortest rings, where one of the conditions of point 11 need not hold."""
+        taken = []
+        rng = random.Random(109)
+        crowns = [(6, plain.renamed_pairs(CROWN, plain.shuffled_names(rng, 6))) for turn in range(5)]
+        for size, pairs in crowns + cases() + plain.random_cases(110, (7, 8), 10):
+            order, facts = Order(size, pairs), plain.Facts(size, pairs)
+            couples = list(itertools.permutations(range(size), 2))
+            arcs = [arc for arc in couples if facts.apart(*arc)]
+            near = [
+                (couples, lambda a, b: plain.forces(facts, a, b)),
+                (arcs, lambda a, b: plain.forces(facts, a, b)),
+                (arcs, lambda a, b: plain.forces(facts, a, b) or (a[0] == b[0] and a[1] != b[1])),
+                (arcs, lambda a, b: plain.forces(facts, a, b) or (a[1] == b[1] and a[0] != b[0])),
+                (arcs, lambda a, b: plain.forces(facts, a, b) or a[0] == b[1])]
+            for some, leads in near:
+                ring = self.shortest_ring(some, leads)
+                if ring is not None:
+                    taken.append(self.check(order, facts, "rows", False, ring))
+        self.assertGreater(taken.count(True), 3)
+        self.assertGreater(taken.count(False), 100)
+
+    def shortest_ring(self, arcs, leads):
+        """A shortest tuple of arcs from the first one of them to the same one reversed, or None."""
+        ways = [[arc] for arc in arcs[:1]]
+        seen = set(arcs[:1])
+        for way in ways:
+            if way[-1] == arcs[0][::-1]:
+                return tuple(way)
+            for arc in arcs:
+                if arc not in seen and leads(way[-1], arc):
+                    seen.add(arc)
+                    ways.append(way + [arc])
+        return None
+
     def test_walks_of_arcs(self):
         rng = random.Random(104)
         taken = 0
-        crown = (6, [(low, 3 + high) for low in range(3) for high in range(3) if low != high])
-        for size, pairs in [crown] * 10 + cases()[-40:]:
+        for size, pairs in [(6, CROWN)] * 10 + cases()[-40:]:
             order, facts = Order(size, pairs), plain.Facts(size, pairs)
             arcs = [arc for arc in itertools.permutations(range(size), 2) if facts.apart(*arc)]
             for turn in range(40 if arcs else 0):
@@ -239,6 +286,13 @@ class AnyThingsTest(JudgeTest):
                 order, facts = Order(size, pairs), plain.Facts(size, pairs)
                 for turn in range(10):
                     self.check_both(order, facts, kind, random_drawing(rng, kind, size))
+
+    def test_other_verdicts(self):
+        order = Order(3, [(0, 1)])
+        for verdict in (None, 0, 1, "True", ()):
+            for paper in ((0, 1, 2), (None, 0, None), draw(order, "levels")[1]):
+                for kind in ("levels", "forest"):
+                    self.assertIs(takes(order, kind, verdict, paper), False)
 
     def test_odd_things(self):
         things = odd_things()

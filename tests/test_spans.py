@@ -87,13 +87,8 @@ class SpansTest(unittest.TestCase):
         rng = random.Random(54)
         words = []
         for size, pairs in span_cases(55, range(5, 41), 6):
-            facts = plain.Facts(size, pairs)
-            covers = [pair for pair in pairs if facts.covers(*pair)]
-            for gone in rng.sample(covers, min(3, len(covers))):
-                words.append(self.check(size, [pair for pair in pairs if pair != gone]))
-            apart = [pair for pair in itertools.permutations(range(size), 2) if facts.apart(*pair)]
-            for more in rng.sample(apart, min(3, len(apart))):
-                words.append(self.check(size, pairs + [more]))
+            for changed in plain.with_a_pair_less_or_more(rng, size, pairs):
+                words.append(self.check(size, changed))
         self.assertGreater(words.count(True), 30)
         self.assertGreater(words.count(False), 30)
 

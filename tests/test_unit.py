@@ -189,13 +189,8 @@ class DrawUnitTest(unittest.TestCase):
         rng = random.Random(65)
         words = []
         for size, pairs, length in unit_cases(66, range(5, 20), 5):
-            facts = plain.Facts(size, pairs)
-            covers = [pair for pair in pairs if facts.covers(*pair)]
-            apart = [pair for pair in itertools.permutations(range(size), 2) if facts.apart(*pair)]
-            for gone in rng.sample(covers, min(3, len(covers))):
-                words.append(self.check(size, [pair for pair in pairs if pair != gone]))
-            for more in rng.sample(apart, min(3, len(apart))):
-                words.append(self.check(size, pairs + [more]))
+            for changed in plain.with_a_pair_less_or_more(rng, size, pairs):
+                words.append(self.check(size, changed))
         self.assertGreater(words.count(True), 30)
         self.assertGreater(words.count(False), 30)
 
