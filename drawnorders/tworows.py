@@ -23,7 +23,7 @@ def forced_from(graph, first):
     fresh = [first]
     while fresh:
         later = []
-        for arc in fresh:
+        for arc in list(fresh):
             for other in forced(graph, arc):
                 if other not in found:
                     found[other] = arc

@@ -105,6 +105,58 @@ def changes(node, name):
     return False
 
 
+def choices(node):
+    """The names that an expression may be, by itself, by a field or an item of it, or by a choice."""
+    if isinstance(node, ast.IfExp):
+        return choices(node.body) | choices(node.orelse)
+    if isinstance(node, ast.BoolOp):
+        return {name for value in node.values for name in choices(value)}
+    if isinstance(node, ast.Subscript) and isinstance(node.slice, ast.Slice):
+        return set()
+    return {root(node)} - {None}
+
+
+def walked(node):
+    """The names of what a loop goes over, straight or through zip and the like, but not as a copy."""
+    views = isinstance(node, ast.Call) and isinstance(node.func, ast.Attribute)
+    if views and node.func.attr in ("items", "keys", "values"):
+        return choices(node.func.value)
+    if called(node) in ON_THE_SPOT:
+        return {name for one in node.args for name in walked(one)}
+    return choices(node)
+
+
+def shared(scope):
+    """The sets of two or more names that some assignments of a function may give to one value."""
+    given = []
+    for node in ast.walk(scope):
+        if isinstance(node, ast.Assign):
+            for target in node.targets:
+                both = isinstance(target, ast.Tuple) and isinstance(node.value, ast.Tuple)
+                twos = zip(target.elts, node.value.elts) if both else [(target, node.value)]
+                given += [{root(one)} | choices(other) for one, other in twos if choices(other)]
+    return given
+
+
+def other_names(scope, names):
+    """The names, and all others that may stand for the same values."""
+    found = set(names)
+    for _ in shared(scope):
+        found = found.union(*[some for some in shared(scope) if some & found])
+    return found
+
+
+def changed_walks(scope):
+    """The lines of the loops of a function that change what they go over, by any of its names."""
+    found = []
+    for node in ast.walk(scope):
+        if isinstance(node, ast.For):
+            names = other_names(scope, walked(node.iter))
+            inner = [one for part in node.body for one in ast.walk(part)]
+            found += [node.lineno for name in names if any(changes(one, name) for one in inner)]
+    return found
+
+
 class LanguageTest(unittest.TestCase):
 
     def test_only_python_files(self):
@@ -229,6 +281,28 @@ class LanguageTest(unittest.TestCase):
                     for name in names_in(node.iter):
                         bad = [one.lineno for part in node.body for one in ast.walk(part) if changes(one, name)]
                         self.assertEqual(bad, [], (path, name))
+
+    def test_what_a_loop_goes_over_is_not_changed_in_it_by_another_name(self):
+        for path, tree in trees():
+            for node in ast.walk(tree):
+                if isinstance(node, ast.FunctionDef):
+                    self.assertEqual(changed_walks(node), [], (path, node.name))
+
+    def test_the_form_is_found_that_changes_what_a_loop_goes_over(self):
+        # Each with a loop over XS, in which another one of the names is changed.
+        bad = ("while xs:\n  ys = []\n  for x in XS:\n    ys.append(x)\n  xs = ys",
+               "ys = xs\nfor x in XS:\n  ys[0] = x", "ys, zs = zs, xs\nfor x in XS:\n  ys.extend([x])",
+               "ys = xs if zs else []\nfor x in XS:\n  del ys[x]", "ys = zs or xs\nfor x in XS:\n  ys.pop()",
+               "ys = zs\nzs = xs\nfor x in XS:\n  ys += [x]", "ys = box.xs = xs\nfor x in XS:\n  ys.insert(0, x)",
+               "ys = xs[0]\nfor x in XS:\n  ys.append(x)", "for x in XS:\n  xs.append(x)")
+        for text in bad:
+            for over, fits in (("xs", False), ("enumerate(xs)", False), ("zip(zs, xs)", False), ("xs if zs else ws", False),
+                               ("xs.items()", False), ("list(xs)", True), ("xs[:]", True), ("sorted(xs)", True)):
+                scope = ast.parse(text.replace("XS", over))
+                for node in ast.walk(scope):
+                    for child in ast.iter_child_nodes(node):
+                        child.parent = node
+                self.assertEqual(changed_walks(scope) == [], fits, text.replace("XS", over))
 
     def test_handlers_name_errors_of_the_program(self):
         own = {node.name for path, tree in trees() for node in ast.walk(tree) if isinstance(node, ast.ClassDef)}
