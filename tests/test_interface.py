@@ -23,6 +23,15 @@ FUNCTIONS = {
     "drawings": {"order_of": ["kind", "drawing"]},
     "kinds": {"draw": ["order", "kind"], "kinds_of": ["order"]},
     "judge": {"takes": ["order", "kind", "verdict", "paper"]},
+    "manyrows": {
+        "draw_many": ["order", "count"], "least_rows": ["order"],
+        "takes_many": ["order", "count", "verdict", "paper"]},
+    "lots": {
+        "lots": ["order"], "lot_count": ["order"], "is_lot": ["order", "members"], "closed_lot": ["order", "members"],
+        "order_of_lots": ["size", "rows"]},
+    "rows": {
+        "is_row": ["order", "row"], "row_count": ["order"], "row_at": ["order", "number"], "row_number": ["order", "row"],
+        "rows": ["order", "start"], "place_counts": ["order"], "swaps": ["one", "other"]},
 }
 
 ORDER_METHODS = {

@@ -8,6 +8,7 @@ from drawnorders.order import Order
 from drawnorders.tworows import draw_rows
 
 import plain
+from plainrows import listed_rows
 
 CROWN = [(low, 3 + high) for low in range(3) for high in range(3) if low != high]
 
@@ -28,15 +29,6 @@ def row_cases(seed, sizes, many):
             other = sorted(one, key=lambda e: one.index(e) + rng.random() * far)
             cases.append((size, row_pairs(one, rng.choice((other, other[::-1])))))
     return cases
-
-
-def listed_rows(facts, row=()):
-    """All rows that have each element behind those below it."""
-    if len(row) == facts.size:
-        yield row
-    for e in range(facts.size):
-        if e not in row and all(low in row for low in range(facts.size) if facts.below(low, e)):
-            yield from listed_rows(facts, row + (e,))
 
 
 def two_rows_exist(facts):
