@@ -32,6 +32,15 @@ FUNCTIONS = {
     "rows": {
         "is_row": ["order", "row"], "row_count": ["order"], "row_at": ["order", "number"], "row_number": ["order", "row"],
         "rows": ["order", "start"], "place_counts": ["order"], "swaps": ["one", "other"]},
+    "width": {
+        "fewest_chains": ["order"], "width": ["order"], "lowest_widest": ["order"], "highest_widest": ["order"],
+        "is_chain": ["order", "members"], "is_antichain": ["order", "members"],
+        "shows_width": ["order", "chains", "members"]},
+    "shape": {
+        "chain_cover": ["order", "count"], "antichain_cover": ["order", "count"], "shape": ["order"],
+        "shows_chain_cover": ["order", "count", "chains", "antichains"],
+        "shows_antichain_cover": ["order", "count", "antichains", "chains"]},
+    "texts": {"write_order": ["order"], "read_order": ["lines"]},
 }
 
 ORDER_METHODS = {
